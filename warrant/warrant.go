@@ -3,6 +3,7 @@ package warrant
 
 import (
 	"warrant/api"
+	"warrant/cert"
 	"warrant/machine"
 	"warrant/source"
 )
@@ -29,10 +30,10 @@ func Run(program string, inputs []int64, fuel int) (api.Trace, api.Errno) {
 }
 
 // Encode writes a certificate (P5).
-func Encode(c api.Cert) (string, api.Errno) { return "", api.OK }
+func Encode(c api.Cert) (string, api.Errno) { return cert.Encode(c) }
 
 // Decode reads a certificate (P5).
-func Decode(text string) (api.Cert, api.Errno) { return api.Cert{}, api.OK }
+func Decode(text string) (api.Cert, api.Errno) { return cert.Decode(text) }
 
 // Analyse looks for a problem's solution, and writes a certificate (P7).
 func Analyse(program string, problem int, t api.Tuning) (string, api.Errno) { return "", api.OK }
