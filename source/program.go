@@ -45,3 +45,19 @@ type Program struct {
 func (n Node) namesLabel() bool {
 	return n.Kind == If || n.Kind == Goto
 }
+
+// Defines reports whether the node gives its Var a value.
+func (n Node) Defines() bool {
+	return n.Kind == Copy || n.Kind == Compute || n.Kind == Input
+}
+
+// Operands are those that the node's words name.
+func (n Node) Operands() []Operand {
+	switch n.Kind {
+	case Copy, Output:
+		return []Operand{n.A}
+	case Compute, If:
+		return []Operand{n.A, n.B}
+	}
+	return nil
+}

@@ -4,6 +4,7 @@ package warrant
 import (
 	"warrant/api"
 	"warrant/cert"
+	"warrant/checker"
 	"warrant/machine"
 	"warrant/source"
 )
@@ -39,4 +40,17 @@ func Decode(text string) (api.Cert, api.Errno) { return cert.Decode(text) }
 func Analyse(program string, problem int, t api.Tuning) (string, api.Errno) { return "", api.OK }
 
 // Check takes a certificate, or not (P6).
-func Check(program string, text string) ([]api.Node, api.Errno) { return nil, api.OK }
+func Check(program string, text string) ([]api.Node, api.Errno) {
+	p, e := source.Parse(program)
+	if e != api.OK {
+		return nil, e
+	}
+	c, e := cert.Decode(text)
+	if e != api.OK {
+		return nil, e
+	}
+	if e := checker.Check(p, c); e != api.OK {
+		return nil, e
+	}
+	return checker.Plain(c.Nodes), api.OK
+}
