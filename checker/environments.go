@@ -74,13 +74,11 @@ func constant(v api.Val, rank int) rules.Constant {
 // constantsRise reports whether the ranks of all nodes and of their early values are just.
 func constantsRise(system rules.System[rules.Env[rules.Constant]], nodes []api.Node) bool {
 	for i, n := range nodes {
-		if !n.Reached {
-			continue
-		}
 		said := func(rank int) rules.Env[rules.Constant] {
 			return system.Says(i, func(from int) rules.Env[rules.Constant] { return constants(nodes[from], rank) })
 		}
 		// Early ranks are above the node's: one above it, these values are their first still.
+		// A node that is not reached is none at any rank, and so below whatever is said.
 		first := constants(n, n.Rank+1)
 		if !system.Below(first, said(n.Rank)) || !earlyRise(n.Vals, said) {
 			return false

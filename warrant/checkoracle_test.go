@@ -18,7 +18,15 @@ type way struct {
 	a, t, b string
 }
 
+// ways are worked out once: the rules ask for them over and over.
 func (o *oracle) ways(n int) []way {
+	for len(o.laid) < len(o.lines) {
+		o.laid = append(o.laid, o.waysOf(len(o.laid)))
+	}
+	return o.laid[n]
+}
+
+func (o *oracle) waysOf(n int) []way {
 	w := o.lines[n]
 	switch w[0] {
 	case "return":

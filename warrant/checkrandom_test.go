@@ -288,7 +288,7 @@ func TestRandomChecks(t *testing.T) {
 	t.Parallel()
 	r := rand.New(rand.NewSource(6))
 	var answers [7][3][10]int
-	for range 3000 {
+	for range 1500 {
 		program, o := goodProgram(r)
 		problem := 1 + r.Intn(6)
 		c := found(r, o, problem)
@@ -309,7 +309,7 @@ func TestRandomChecks(t *testing.T) {
 		for grade := 1; grade <= 2; grade++ {
 			for _, e := range []api.Errno{api.OK, api.ErrSize, api.ErrSound, api.ErrLeast} {
 				asked := (grade == 2 || problem != 6) && (e != api.ErrLeast || grade == 1)
-				if n := answers[problem][grade][e]; asked && n < 50 {
+				if n := answers[problem][grade][e]; asked && n < 20 {
 					t.Errorf("problem %d, grade %d: only %d are answered %d", problem, grade, n, e)
 				}
 			}
@@ -360,7 +360,7 @@ func TestRandomGreatChecks(t *testing.T) {
 func TestOneFactLessOrMore(t *testing.T) {
 	t.Parallel()
 	r := rand.New(rand.NewSource(7))
-	for range 300 {
+	for range 100 {
 		program, o := goodProgram(r)
 		for problem := 1; problem <= 4; problem++ {
 			c := found(r, o, problem)
@@ -387,7 +387,7 @@ func TestOneFactLessOrMore(t *testing.T) {
 func TestOneConstantLessOrMore(t *testing.T) {
 	t.Parallel()
 	r := rand.New(rand.NewSource(8))
-	for range 150 {
+	for range 60 {
 		program, o := goodProgram(r)
 		c := found(r, o, api.Constants)
 		for i, n := range c.Nodes {
@@ -425,7 +425,7 @@ func TestRandomSpoiledChecks(t *testing.T) {
 	t.Parallel()
 	r := rand.New(rand.NewSource(9))
 	var answers [10]int
-	for range 8000 {
+	for range 3000 {
 		program, o := goodProgram(r)
 		text := []byte(textOf(t, found(r, o, 1+r.Intn(6))))
 		if i := 3 + r.Intn(len(text)-3); r.Intn(4) > 0 {
@@ -437,7 +437,7 @@ func TestRandomSpoiledChecks(t *testing.T) {
 		answers[compareCheck(t, program, string(text))]++
 	}
 	for _, e := range []api.Errno{api.OK, api.ErrSyntax, api.ErrProgram, api.ErrCert, api.ErrSize, api.ErrSound, api.ErrLeast} {
-		if answers[e] < 20 {
+		if answers[e] < 10 {
 			t.Errorf("only %d are answered %d", answers[e], e)
 		}
 	}
@@ -447,7 +447,7 @@ func TestRandomSpoiledChecks(t *testing.T) {
 func TestTakenHoldsOfRuns(t *testing.T) {
 	t.Parallel()
 	r := rand.New(rand.NewSource(10))
-	for range 1000 {
+	for range 400 {
 		program, o := goodProgram(r)
 		var nodes [7][]api.Node
 		for problem := 1; problem <= 6; problem++ {

@@ -67,6 +67,7 @@ type oracle struct {
 	lines   [][]string
 	places  map[string]int
 	vars    []string
+	laid    [][]way
 }
 
 func (o *oracle) noteVariables(words []string) {
