@@ -6,6 +6,7 @@ import (
 	"warrant/cert"
 	"warrant/checker"
 	"warrant/machine"
+	"warrant/search"
 	"warrant/source"
 )
 
@@ -37,7 +38,19 @@ func Encode(c api.Cert) (string, api.Errno) { return cert.Encode(c) }
 func Decode(text string) (api.Cert, api.Errno) { return cert.Decode(text) }
 
 // Analyse looks for a problem's solution, and writes a certificate (P7).
-func Analyse(program string, problem int, t api.Tuning) (string, api.Errno) { return "", api.OK }
+func Analyse(program string, problem int, t api.Tuning) (string, api.Errno) {
+	p, e := source.Parse(program)
+	if e != api.OK {
+		return "", e
+	}
+	if problem < api.Reaching || problem > api.Ranges {
+		return "", api.ErrProblem
+	}
+	if len(t.Picks) > api.MaxPicks || len(t.Thresholds) > api.MaxThresholds || t.Narrow < 0 || t.Narrow > api.MaxNarrow {
+		return "", api.ErrTuning
+	}
+	return cert.Encode(search.Find(p, problem, t))
+}
 
 // Check takes a certificate, or not (P6).
 func Check(program string, text string) ([]api.Node, api.Errno) {
