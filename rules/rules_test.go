@@ -3,6 +3,7 @@ package rules
 import (
 	"math"
 	"math/big"
+	"math/rand"
 	"slices"
 	"testing"
 
@@ -178,5 +179,47 @@ func TestJoins(t *testing.T) {
 	}
 	if got := r.Join(bounds(1, 2), bounds(-4, 0), bounds(9, 9)); got != bounds(-4, 9) {
 		t.Errorf("%v", got)
+	}
+}
+
+// What is lower ahead of an edge is lower behind it: the search leans on this.
+func TestEdgesKeepOrder(t *testing.T) {
+	r := rand.New(rand.NewSource(1))
+	some := func() int64 { return edges()[r.Intn(len(edges()))] }
+	for _, words := range []string{
+		"x = y", "x = input", "x = x + y", "x = x - y", "x = x * y", "x = x / y", "x = x - x", "x = x * x", "x = x / x", "x = y / 3", "x = y / -1", "x = y / -3", "x = 7 / y",
+		"if x < y goto l", "if x <= y goto l", "if x == y goto l", "if x != y goto l", "if x < x goto l", "if x <= x goto l", "if x == x goto l", "if x != x goto l", "if x < 3 goto l", "if 3 <= x goto l", "if 3 == y goto l", "if y != 3 goto l",
+	} {
+		p := parsed(t, "output x\noutput y\n"+words+"\nreturn\nl: return")
+		ranges, constants := Ranges(p), Constants(p)
+		for range 3000 {
+			var low, high Env[Bounds]
+			var lower, upper Env[Constant]
+			low.Reached, high.Reached, lower.Reached, upper.Reached = true, true, true, true
+			for i := range 2 {
+				l := []int64{some(), some(), some(), some()}
+				slices.Sort(l)
+				low.Vals[i], high.Vals[i] = Bounds{l[1], l[2]}, Bounds{l[0], l[3]}
+				if r.Intn(2) == 0 {
+					low.Vals[i] = Bounds{l[1], l[1]}
+				}
+				lower.Vals[i].C, upper.Vals[i].C = l[1], l[1]
+				if r.Intn(2) == 0 {
+					upper.Vals[i] = Constant{Any: true}
+				}
+			}
+			for _, to := range []int{3, 4} {
+				for _, e := range ranges.Rules[to].Edges {
+					if a, b := e.Make(low), e.Make(high); !ranges.Below(a, b) {
+						t.Fatalf("%s makes %v of %v, but %v of %v", words, a, low, b, high)
+					}
+				}
+				for _, e := range constants.Rules[to].Edges {
+					if a, b := e.Make(lower), e.Make(upper); !constants.Below(a, b) {
+						t.Fatalf("%s makes %v of %v, but %v of %v", words, a, lower, b, upper)
+					}
+				}
+			}
+		}
 	}
 }
